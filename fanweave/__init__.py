@@ -1,0 +1,1 @@
+"""Fanweave: functions worked out with nothing done twice."""
