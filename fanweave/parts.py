@@ -51,6 +51,35 @@ def end_of(parts, start):
     return place
 
 
+def ends(parts):
+    """Tell the list, for each part, of the place behind it and all that is within it."""
+    told = [0] * len(parts)
+    for place in reversed(range(len(parts))):
+        behind = place + 1
+        if parts[place] == FUN:
+            behind = told[behind]
+        elif parts[place] == PUT:
+            behind = told[told[behind]]
+        told[place] = behind
+    return told
+
+
+def addresses_at(parts, places):
+    """Tell the list of the addresses of the parts at these places, in their order."""
+    waiting = [""]
+    told = []
+    # The parts behind the last place have no say in the addresses ahead of them.
+    for part in parts[:max(places, default=-1) + 1]:
+        address = waiting.pop()
+        told.append(address)
+        if part == FUN:
+            waiting.append(address + "b")
+        elif part == PUT:
+            waiting.append(address + "g")
+            waiting.append(address + "f")
+    return [told[place] for place in places]
+
+
 def raised(parts, by):
     """Tell the parts as they stand with so many more functions around."""
     return [part + by if is_level(part) else part for part in parts]

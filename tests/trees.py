@@ -1,5 +1,6 @@
 """Terms a second time, for comparison: nested tuples with the words as they were handed in, walked by recursion."""
 
+import re
 from functools import lru_cache
 from itertools import count, product
 
@@ -15,6 +16,30 @@ def built(tree):
     if tree[0] == "fun":
         return fun(tree[1], built(tree[2]))
     return put(built(tree[1]), built(tree[2]))
+
+
+def parsed(text):
+    """The tree of a text."""
+    signs = re.findall(r"\[[a-z]+\] |[a-z]+|[() ]", text)
+
+    def stretch():
+        if signs[0][0] == "[":
+            return ("fun", signs.pop(0)[1:-2], stretch())
+        tree = single()
+        while signs and signs[0] == " ":
+            signs.pop(0)
+            tree = ("put", tree, single())
+        return tree
+
+    def single():
+        if signs[0] != "(":
+            return ("name", signs.pop(0))
+        signs.pop(0)
+        tree = stretch()
+        signs.pop(0)
+        return tree
+
+    return stretch()
 
 
 @lru_cache(None)
