@@ -61,6 +61,16 @@ class LabelledRun:
         return tuple(letters)
 
 
+def rows_to_worth(run, most):
+    """Tell the list of a run's rounds from here to the worth, each one done, as at most so many lists."""
+    told = []
+    while run.goes_on(len(told), most):
+        places = run.family_places(run.leftmost())
+        told.append(addresses_at(run.term.parts, places))
+        run.turn(places)
+    return told
+
+
 def families(term, *, most=LIMIT):
     """Tell the list, for each turn of the leftmost run, of the tuple of its address and its family's number."""
     run = LabelledRun(term)
@@ -75,13 +85,7 @@ def families(term, *, most=LIMIT):
 
 def rounds(term, *, most=LIMIT):
     """Tell the list, for each family of the leftmost run, of the list of addresses at which it is turned at once."""
-    run = LabelledRun(term)
-    told = []
-    while run.goes_on(len(told), most):
-        places = run.family_places(run.leftmost())
-        told.append(addresses_at(run.term.parts, places))
-        run.turn(places)
-    return told
+    return rows_to_worth(LabelledRun(term), most)
 
 
 def run_families(term, addresses):

@@ -3,11 +3,7 @@
 from fanweave.courses import NameCourse, NeedCourse, PlaceCourse, ValueCourse
 from fanweave.errors import NoBack, NotDone, TooLong
 from fanweave.terms import LIMIT, Term
-
-
-def is_whole(thing):
-    """Tell of anything whether it is a whole number from 0 on."""
-    return isinstance(thing, int) and not isinstance(thing, bool) and thing >= 0
+from fanweave.wholes import is_whole
 
 
 class Machine:

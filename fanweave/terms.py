@@ -52,10 +52,15 @@ def put(function, argument):
 def put_in(term, word, other):
     """Tell the term with the other one in the place of each free name that is the word."""
     check_word(word)
+    return all_put_in(term, {word: other})
+
+
+def all_put_in(term, others):
+    """Tell the term with others in the place of free names, all at once, by a dict from their words."""
     parts = []
     for part, depth in zip(term.parts, depths(term.parts)):
-        if part == word:
-            parts.extend(raised(other.parts, depth))
+        if part in others:
+            parts.extend(raised(others[part].parts, depth))
         else:
             parts.append(part)
     return Term(parts)
