@@ -75,11 +75,9 @@ def read_row(text):
 
 def read_end(text):
     """Tell the tuple of two numbers that are written with a point between, None where there are no such."""
-    knot, point, place = text.partition(".")
+    knot, _, place = text.partition(".")
     numbers = (written_number(knot), written_number(place))
-    if point == "" or None in numbers:
-        return None
-    return numbers
+    return None if None in numbers else numbers
 
 
 def are_whole(rows):

@@ -25,9 +25,7 @@ def numeral(n):
 def number_of(term):
     """Tell the number of which this is the term, None where there is none."""
     n = (len(term) - 3) // 2
-    if n < 0 or term.parts != numeral_parts(n):
-        return None
-    return n
+    return n if term.parts == numeral_parts(n) else None
 
 
 def put_to_both(text, one, other):

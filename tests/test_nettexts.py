@@ -35,6 +35,8 @@ NO_ROWS = [
     (OF_X.replace(" x ", " abcdefghi "), 2), (OF_X.replace(" x ", " X "), 2), (OF_X.replace(" x ", " x1 "), 2),
     (OF_X.replace(" x ", " x y "), 2), (OF_X.replace("name 0", "name 1"), 2), (OF_X.replace("x 1.0", "x"), 2),
     (OF_X.replace("name 0 x", "name x 0"), 2), ("root 0 1.0; end 1 0.0", 1), ("root 0 1.0; end 0", 1),
+    ("name", 0), ("name 0", 0), ("name 0 x", 0), ("root 0 1.0; name 0", 1), ("root 0 1.0; name 0 0.0", 1),
+    ("root 0 1.0; name 0 x 0.0 0.0", 1), ("root 0 1", 0), ("root 0 1.0; end 0 0", 1),
     ("root 0 1.0; end 0 x 0.0", 1), ("root 0 1.0; fun 0 0.0 1.2", 1), ("root 0 1.0; put 0 0.0 1.2 1.1 1.0", 1),
     # Of several the first one.
     ("root 0 1.0; end 1 0.0; x; y", 1), ("root 0 7.7; x", 1)]

@@ -207,7 +207,7 @@ class TestIsShaping(RefusalCase):
         for text in ["", " ", "A", "a1", "abcdefghi", "a b", "a > b", "(a)", "()", "(a > )", "( > a)", "(a > b",
                      "a > b)", "(a > b))", "((a > b)", "((a > b))", "(a  > b)", "(a >  b)", "( a > b)", "(a > b )",
                      "(a > b) ", " (a > b)", "(a>b)", "(a -> b)", "(a > b > c)", "(a > b) > c", "(a > b)(a > b)",
-                     "a(b > c)",
+                     "a(b > c)", "(a > b(", "(a > b]", "(a > b>", "(a > b ", "(a > bb", "((a > b(", "((a > b) > c(",
                      "(abcdefghi > a)", "(a > abcdefghi)", "(a < b)", "[a > b]", "(a > b\n)", "a\n", "é", "(", ")",
                      ">"]:
             self.assertIs(is_shaping(term, {"": text}), False, text)

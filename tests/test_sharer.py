@@ -286,15 +286,16 @@ class TestRun(SharerCase):
                 self.stands(machine, 0, 0)
 
     def test_those_ahead_are_not_counted(self):
-        term = read_term("([x] y x x) (([w] w) (([v] v) z))")
-        steps = self.steps(term)[:-1]
-        worth = normal(term)[0]
-        for done in range(len(steps) + 1):
-            machine = Sharer(term)
-            for _ in range(done):
-                machine.step()
-            machine.run(most=steps[done:].count("turn"), moves=steps[done:].count("move"))
-            self.stands(machine, steps.count("turn"), steps.count("move"), worth)
+        for text in [DOUBLED, "([x] y (x v) (x w)) ([u] ([z] z z) v)", "([f] f (f x)) ([y] ([z] z z) y)"]:
+            term = read_term(text)
+            steps = self.steps(term)[:-1]
+            self.assertGreater(steps.count("move"), 2)
+            for done in range(len(steps) + 1):
+                machine = Sharer(term)
+                for _ in range(done):
+                    machine.step()
+                machine.run(most=steps[done:].count("turn"), moves=steps[done:].count("move"))
+                self.stands(machine, steps.count("turn"), steps.count("move"), normal(term)[0])
 
     def test_endless_terms(self):
         for text in samples.ENDLESS:
